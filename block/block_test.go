@@ -47,15 +47,31 @@ func wantRead(t *testing.T, d *Device, i int, want string) {
 
 func wantDisk(t *testing.T, d *Device, want ...string) {
 	t.Helper()
-	if l := d.Disk(); !slices.Equal(l, want) {
-		t.Errorf("Disk: %q; want %q", l, want)
+	l := d.Disk()
+	if len(l) != len(want) {
+		t.Errorf("Disk: %d blocks; want %d", len(l), len(want))
+		return
+	}
+	for i := range l {
+		if l[i] != want[i] {
+			t.Errorf("Disk, block %d: %q; want %q", i, l[i], want[i])
+			return
+		}
 	}
 }
 
 func wantPending(t *testing.T, d *Device, want ...api.Write) {
 	t.Helper()
-	if l := d.Pending(); !slices.Equal(l, want) {
-		t.Errorf("Pending: %v; want %v", l, want)
+	l := d.Pending()
+	if len(l) != len(want) {
+		t.Errorf("Pending: %d; want %d", len(l), len(want))
+		return
+	}
+	for k := range l {
+		if l[k] != want[k] {
+			t.Errorf("Pending, number %d: %d, %q; want %d, %q", k, l[k].Block, l[k].Data, want[k].Block, want[k].Data)
+			return
+		}
 	}
 }
 
