@@ -1,0 +1,70 @@
+package utf
+
+// kindRow is runes of one kind that stand beside one another.
+type kindRow struct {
+	first, last rune
+	kind        int
+}
+
+// kinds are all runes that are not Other, in rising rows.
+var kinds = []kindRow{
+	{9, 13, Space},
+	{' ', ' ', Space},
+	{'0', '9', Digit},
+	{'A', 'Z', Letter},
+	{'a', 'z', Letter},
+	{0x85, 0x85, Space},
+	{0xA0, 0xA0, Space},
+	{0xAA, 0xAA, Letter},
+	{0xB5, 0xB5, Letter},
+	{0xBA, 0xBA, Letter},
+	{0xC0, 0xD6, Letter},
+	{0xD8, 0xF6, Letter},
+	{0xF8, 0x24F, Letter},
+	{0x370, 0x374, Letter},
+	{0x376, 0x377, Letter},
+	{0x37A, 0x37D, Letter},
+	{0x37F, 0x37F, Letter},
+	{0x386, 0x386, Letter},
+	{0x388, 0x38A, Letter},
+	{0x38C, 0x38C, Letter},
+	{0x38E, 0x3A1, Letter},
+	{0x3A3, 0x3F5, Letter},
+	{0x3F7, 0x481, Letter},
+	{0x48A, 0x52F, Letter},
+	{0x531, 0x556, Letter},
+	{0x561, 0x587, Letter},
+	{0x5D0, 0x5EA, Letter},
+	{0x660, 0x669, Digit},
+	{0x966, 0x96F, Digit},
+	{0x2000, 0x200A, Space},
+	{0x2028, 0x2029, Space},
+	{0x3000, 0x3000, Space},
+	{0x4E00, 0x9FFF, Letter},
+	{0xAC00, 0xD7A3, Letter},
+}
+
+// foldRow is runes whose folded ones stand by further on: of first to last each one (every 1), or each second one from first on (every 2).
+type foldRow struct {
+	first, last, every, by rune
+}
+
+// folds are all runes that Fold changes, in rising rows.
+var folds = []foldRow{
+	{'A', 'Z', 1, 32},
+	{0xC0, 0xD6, 1, 32},
+	{0xD8, 0xDE, 1, 32},
+	{0x100, 0x12F, 2, 1},
+	{0x139, 0x148, 2, 1},
+	{0x14A, 0x177, 2, 1},
+	{0x179, 0x17E, 2, 1},
+	{0x391, 0x3A1, 1, 32},
+	{0x3A3, 0x3A9, 1, 32},
+	{0x3C2, 0x3C2, 1, 1},
+	{0x400, 0x40F, 1, 80},
+	{0x410, 0x42F, 1, 32},
+	{0x460, 0x481, 2, 1},
+	{0x48A, 0x4BF, 2, 1},
+	{0x4D0, 0x52F, 2, 1},
+	{0x531, 0x556, 1, 48},
+}
